@@ -1,0 +1,1 @@
+"""Handicaps: corrected times and the order of boats of unlike speed."""

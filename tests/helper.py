@@ -1,0 +1,84 @@
+"""Builds lists of calls, and takes their answers apart."""
+
+from boathandicaps.certificates import answers
+
+
+def as_bytes(text):
+    return list(text.encode("latin-1")) if isinstance(text, str) else list(text)
+
+
+def row(numbers):
+    return [len(numbers)] + list(numbers)
+
+
+def load(text):
+    return [0] + row(as_bytes(text))
+
+
+def printed():
+    return [1]
+
+
+def amend(text):
+    return [2] + row(as_bytes(text))
+
+
+def withdraw(n):
+    return [3, n]
+
+
+def race(date, legs):
+    return [4] + row(as_bytes(date)) + row(legs)
+
+
+def finish(r, b, e):
+    return [5, r, b, e]
+
+
+def counting(b, r):
+    return [6, b, r]
+
+
+def corrected(m, r, b):
+    return [7, m, r, b]
+
+
+def order(m, r):
+    return [8, m, r]
+
+
+def ask(*calls):
+    """One list of answers for each call."""
+    given = answers([number for call in calls for number in call])
+    apart = []
+    at = 0
+    while at < len(given):
+        size = given[at]
+        apart.append(given[at + 1:at + 1 + size])
+        at += 1 + size
+    assert at == len(given)
+    assert len(apart) == len(calls)
+    return apart
+
+
+def last(*calls):
+    return ask(*calls)[-1]
+
+
+def lines(*rows):
+    return "".join(text + "\n" for text in rows)
+
+
+def text_of(answer):
+    return bytes(answer).decode("ascii")
+
+
+def time_and_fraction(answer):
+    """What corrected answers: the seconds and the fraction's text, its count checked."""
+    assert answer[1] == len(answer) - 2
+    return answer[0], text_of(answer[2:])
+
+
+def cert(no, boat, first="2026-01-01", last_day="2026-12-31", factor=1000, allowance=0,
+         rows=("wind 5 900 800 700", "wind 10 600 500 400")):
+    return lines(f"cert {no} {boat} {first} {last_day} {factor} {allowance}", *rows)
