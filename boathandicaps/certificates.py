@@ -1,7 +1,9 @@
 """The calls on one new object, taken one behind another out of one list of whole numbers."""
 
-from boathandicaps.session import (
-    Session, add_race, amend, corrected_time, counting, finish, load, order, printed, withdraw,
+from boathandicaps.session import Session, add_race, amend, finish, load, withdraw
+from boathandicaps.telling import (
+    corrected_time, counting, date_of_day, day_and_legs, margin, number_of_day, order, page, printed, swing,
+    time_in_wind, wind_of_time,
 )
 
 # By a call's number: how many whole numbers it has, then how many rows.
@@ -15,6 +17,14 @@ SHAPES = {
     6: (2, 0),
     7: (3, 0),
     8: (2, 0),
+    9: (2, 0),
+    10: (3, 0),
+    11: (4, 0),
+    12: (3, 0),
+    13: (0, 1),
+    14: (1, 0),
+    15: (2, 0),
+    16: (1, 0),
 }
 
 
@@ -29,11 +39,35 @@ def take_rows(calls, start, count):
     return rows
 
 
+def answer_telling_call(session, call, numbers, rows):
+    if call == 1:
+        return printed(session)
+    if call == 6:
+        return counting(session, numbers[0], numbers[1])
+    if call == 7:
+        return corrected_time(session, numbers[0], numbers[1], numbers[2])
+    if call == 8:
+        return order(session, numbers[0], numbers[1])
+    if call == 9:
+        return wind_of_time(session, numbers[0], numbers[1])
+    if call == 10:
+        return time_in_wind(session, numbers[0], numbers[1], numbers[2])
+    if call == 11:
+        return margin(session, numbers[0], numbers[1], numbers[2], numbers[3])
+    if call == 12:
+        return swing(session, numbers[0], numbers[1], numbers[2])
+    if call == 13:
+        return number_of_day(rows[0])
+    if call == 14:
+        return date_of_day(numbers[0])
+    if call == 15:
+        return page(session, numbers[0], numbers[1])
+    return day_and_legs(session, numbers[0])
+
+
 def answer_call(session, call, numbers, rows):
     if call == 0:
         return load(session, rows[0])
-    if call == 1:
-        return printed(session)
     if call == 2:
         return amend(session, rows[0])
     if call == 3:
@@ -42,11 +76,7 @@ def answer_call(session, call, numbers, rows):
         return add_race(session, rows[0], rows[1])
     if call == 5:
         return finish(session, numbers[0], numbers[1], numbers[2])
-    if call == 6:
-        return counting(session, numbers[0], numbers[1])
-    if call == 7:
-        return corrected_time(session, numbers[0], numbers[1], numbers[2])
-    return order(session, numbers[0], numbers[1])
+    return answer_telling_call(session, call, numbers, rows)
 
 
 def answers(calls):

@@ -4,6 +4,8 @@ from boathandicaps.texts import DASH, codes, digits_value, is_digit
 
 FIRST_YEAR = 1900
 LAST_YEAR = 2199
+# The number of 2199-12-31.
+LAST_DAY = 109572
 MONTH_LENGTHS = (31, 28, 31, 30, 31, 30, 31, 31, 30, 31, 30, 31)
 DATE_SIZE = 10
 DASH_PLACES = (4, 7)

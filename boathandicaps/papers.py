@@ -3,6 +3,9 @@
 from boathandicaps.days import day_codes
 from boathandicaps.texts import codes, joined
 
+LEAST_FACTOR = 100
+MOST_FACTOR = 9999
+
 
 class Certificate:
     """One certificate; a row is a wind and the seconds a mile on a beat, a reach, a run."""

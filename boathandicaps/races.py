@@ -1,5 +1,6 @@
-"""Races: the course's time, corrected times, the wind that a time stands for, places."""
+"""Races: the course's time, corrected times, the wind that a time stands for, places, margins."""
 
+from boathandicaps.papers import LEAST_FACTOR, MOST_FACTOR
 from boathandicaps.quotients import is_less, lowest
 
 TIME_ON_TIME = 0
@@ -8,6 +9,7 @@ WIND_OF_TIME = 2
 MOST_LEGS = 12
 MOST_KIND = 2
 MOST_LENGTH = 10000
+MOST_SECONDS = 999999
 
 
 class Race:
@@ -17,6 +19,10 @@ class Race:
         self.day = day
         self.legs = legs
         self.seconds = {}
+
+
+def is_way(way):
+    return TIME_ON_TIME <= way <= WIND_OF_TIME
 
 
 def read_legs(row):
@@ -42,6 +48,24 @@ def distance(legs):
 def course_time(legs, row):
     """The course's time in the row's wind, in hundredths of a second."""
     return sum([leg[1] * row[1 + leg[0]] for leg in legs])
+
+
+def course_time_in(legs, rows, wind):
+    """The course's time in a wind that is a fraction of knots, a fraction of hundredths of a second."""
+    if not is_less((rows[0][0], 1), wind):
+        return lowest(course_time(legs, rows[0]), 1)
+    if not is_less(wind, (rows[-1][0], 1)):
+        return lowest(course_time(legs, rows[-1]), 1)
+    place = 1
+    while is_less((rows[place][0], 1), wind):
+        place += 1
+    before = rows[place - 1]
+    time_before = course_time(legs, before)
+    less_time = time_before - course_time(legs, rows[place])
+    # Both are counted in the parts of a knot that the wind is told in, so that all stays whole.
+    span = (rows[place][0] - before[0]) * wind[1]
+    gone = wind[0] - before[0] * wind[1]
+    return lowest(time_before * span - less_time * gone, span)
 
 
 def corrected(way, certificate, legs, seconds):
@@ -97,3 +121,26 @@ def places(way, results):
         ahead = [other for other in results.values() if is_ahead(way, other, own)]
         pairs.append((1 + len(ahead), boat))
     return sorted(pairs)
+
+
+def margin_ahead(way, certificate, legs, other):
+    """The most seconds with which she's ahead of the other result, 0 if there are none."""
+    # A shorter time is never behind a longer one: those that are ahead are all the times up to the margin.
+    ahead = 0
+    not_ahead = MOST_SECONDS + 1
+    while not_ahead - ahead > 1:
+        middle = (ahead + not_ahead) // 2
+        if is_ahead(way, result(way, certificate, legs, middle), other):
+            ahead = middle
+        else:
+            not_ahead = middle
+    return ahead
+
+
+def factor_ahead(seconds, other):
+    """The greatest factor with which the seconds are ahead of the other corrected time by way 0, 0 if there's none."""
+    # The factor times the seconds, over 1000, must be less, not alike: so one is taken off before dividing.
+    factor = (1000 * other[0] - 1) // (seconds * other[1])
+    if factor < LEAST_FACTOR:
+        return 0
+    return min(factor, MOST_FACTOR)

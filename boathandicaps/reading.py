@@ -1,7 +1,7 @@
 """Reads a text of certificates behind the boats and certificates that are there already."""
 
 from boathandicaps.days import read_day
-from boathandicaps.papers import Certificate, has_certificate
+from boathandicaps.papers import LEAST_FACTOR, MOST_FACTOR, Certificate, has_certificate
 from boathandicaps.texts import codes, has_only_signs, is_name, line_words, read_number, text_lines
 
 MOST_BOATS = 12
@@ -41,7 +41,7 @@ def read_certificate(reading, words):
     number = read_number(words[1], 1, 999999)
     first_day = read_day(words[3])
     last_day = read_day(words[4])
-    factor = read_number(words[5], 100, 9999)
+    factor = read_number(words[5], LEAST_FACTOR, MOST_FACTOR)
     allowance = read_number(words[6], 0, 99999)
     if None in (number, first_day, last_day, factor, allowance):
         return False

@@ -47,6 +47,42 @@ def order(m, r):
     return [8, m, r]
 
 
+def wind(r, b):
+    return [9, r, b]
+
+
+def course(r, b, w):
+    """The call time."""
+    return [10, r, b, w]
+
+
+def margin(m, r, a, b):
+    return [11, m, r, a, b]
+
+
+def swing(r, a, b):
+    return [12, r, a, b]
+
+
+def day_of(text):
+    """The call day."""
+    return [13] + row(as_bytes(text))
+
+
+def date_of(n):
+    """The call date."""
+    return [14, n]
+
+
+def page(m, r):
+    return [15, m, r]
+
+
+def legs_of(r):
+    """The call legs."""
+    return [16, r]
+
+
 def ask(*calls):
     """One list of answers for each call."""
     given = answers([number for call in calls for number in call])
@@ -77,6 +113,24 @@ def time_and_fraction(answer):
     """What corrected answers: the seconds and the fraction's text, its count checked."""
     assert answer[1] == len(answer) - 2
     return answer[0], text_of(answer[2:])
+
+
+def fractions(answer):
+    """Texts counted, one behind another."""
+    texts = []
+    at = 0
+    while at < len(answer):
+        end = at + 1 + answer[at]
+        assert end <= len(answer)
+        texts.append(text_of(answer[at + 1:end]))
+        at = end
+    return texts
+
+
+def start(text, legs, *seconds, on="2026-07-04"):
+    """Calls that load the text, make one race, and let boats 1, 2, .. finish."""
+    calls = [load(text), race(on, legs)]
+    return calls + [finish(1, boat, time) for boat, time in enumerate(seconds, start=1)]
 
 
 def cert(no, boat, first="2026-01-01", last_day="2026-12-31", factor=1000, allowance=0,

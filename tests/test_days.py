@@ -1,11 +1,11 @@
-"""Dates, in a race's call and in certificates, and the numbers of days."""
+"""Dates, in a race's call and in certificates, the numbers of days, and the calls day and date."""
 
 import calendar
 import datetime
 import unittest
 
 from boathandicaps.days import day_codes, read_day
-from tests.helper import as_bytes, ask, cert, last, load, printed, race, text_of
+from tests.helper import as_bytes, ask, cert, date_of, day_of, last, load, printed, race, text_of
 
 RIGHT = (
     "1900-01-01", "2199-12-31", "2026-07-04", "2026-01-31", "2026-04-30", "2026-02-28",
@@ -17,6 +17,7 @@ WRONG = (
     "2026-7-4", "2026-07-4", "2026-07-041", "02026-07-04", "2026/07/04", "20260704", "2026-07:04", "2026_07-04",
     "2026-0a-04", "2026-07-0x", "x026-07-04", "2026-07-0/", "2026-07-0:", "-026-07-04", "2026--7-04",
 )
+LAST_NUMBER = 109572
 
 
 class Dates(unittest.TestCase):
@@ -65,7 +66,46 @@ class Dates(unittest.TestCase):
             self.assertEqual(day_codes(number), date)
             day += datetime.timedelta(days=1)
             number += 1
-        self.assertEqual(number, 109573)
+        self.assertEqual(number, LAST_NUMBER + 1)
+
+
+class DayAndDate(unittest.TestCase):
+    def test_the_ends(self):
+        for date, number in (("1900-01-01", 0), ("1900-01-02", 1), ("2199-12-30", 109571), ("2199-12-31", 109572)):
+            self.assertEqual(last(day_of(date)), [number])
+
+    def test_dates(self):
+        for text in RIGHT:
+            number = (datetime.date.fromisoformat(text) - datetime.date(1900, 1, 1)).days
+            self.assertEqual(last(day_of(text)), [number], text)
+
+    def test_what_is_no_date(self):
+        for text in WRONG + ("", " ", " 2026-07-04", "2026-07-04 ", "2026-07-04\n", "\n2026-07-04", "2026-07-04" * 500):
+            self.assertEqual(last(day_of(text)), [-7], text)
+        for code in (0, 9, 10, 32, 47, 58, 178, 255):
+            for place in range(10):
+                text = list(b"2026-07-04")
+                text[place] = code
+                self.assertEqual(last(day_of(text)), [-7], text)
+
+    def test_numbers(self):
+        self.assertEqual(last(date_of(0)), list(b"1900-01-01"))
+        self.assertEqual(last(date_of(LAST_NUMBER)), list(b"2199-12-31"))
+        self.assertEqual([text_of(answer) for answer in ask(date_of(58), date_of(59), date_of(364), date_of(365))],
+                         ["1900-02-28", "1900-03-01", "1900-12-31", "1901-01-01"])
+
+    def test_there_and_back(self):
+        numbers = list(range(0, LAST_NUMBER, 37)) + list(range(36500, 36900)) + list(range(73000, 73300))
+        for at in range(0, len(numbers), 100):
+            some = numbers[at:at + 100]
+            dates = ask(*[date_of(number) for number in some])
+            told = [(datetime.date(1900, 1, 1) + datetime.timedelta(number)).isoformat() for number in some]
+            self.assertEqual([text_of(answer) for answer in dates], told)
+            self.assertEqual(ask(*[day_of(answer) for answer in dates]), [[number] for number in some])
+
+    def test_numbers_out_of_range(self):
+        for number in (-1, LAST_NUMBER + 1, 10 ** 18, -10 ** 18):
+            self.assertEqual(last(date_of(number)), [-10])
 
 
 if __name__ == "__main__":

@@ -3,18 +3,12 @@
 import unittest
 
 from tests.helper import (
-    amend, ask, cert, corrected, counting, finish, last, lines, load, order, race, time_and_fraction, withdraw,
+    amend, ask, cert, corrected, counting, finish, last, lines, load, order, race, start, time_and_fraction, withdraw,
 )
 
 DAY = "2026-07-04"
 FLEET = lines("boat Ant", "boat Bee") + cert(1, "Ant") + cert(2, "Bee", factor=950, allowance=600)
 BIG = (0, -1, 7, 10 ** 18, -10 ** 18)
-
-
-def start(text, legs, *seconds):
-    """Calls that load the text, make one race, and let boats 1, 2, .. finish."""
-    calls = [load(text), race(DAY, legs)]
-    return calls + [finish(1, boat, time) for boat, time in enumerate(seconds, start=1)]
 
 
 def one_boat(legs, seconds, factor=1000, allowance=0):

@@ -1,5 +1,6 @@
 """Random lists of calls, held against a second, plainer telling of the document in all of Python."""
 
+import bisect
 import datetime
 import math
 import random
@@ -7,7 +8,10 @@ import re
 import unittest
 from fractions import Fraction
 
-from tests.helper import amend, as_bytes, ask, corrected, counting, finish, load, order, printed, race, withdraw
+from tests.helper import (
+    amend, as_bytes, ask, corrected, counting, course, date_of, day_of, finish, legs_of, load, margin, order, page,
+    printed, race, swing, wind, withdraw,
+)
 
 NUMBER = re.compile(rb"0|[1-9][0-9]{0,6}")
 NAME = re.compile(rb"[A-Za-z0-9-]{1,12}")
@@ -149,14 +153,24 @@ class Reference:
     def counting(self, b, r):
         return self.refusal([(-2, b), (-3, r)]) or [cert["no"] for cert in self.holds(b, r)] or [0]
 
-    def result(self, m, r, b):
-        cert, race_told = self.holds(b, r)[0], self.races[r - 1]
-        seconds, legs = race_told["times"][b], race_told["legs"]
+    def spots(self, r, b):
+        """Each row's wind, and the course's time there in seconds."""
+        legs = self.races[r - 1]["legs"]
+        rows = self.holds(b, r)[0]["rows"]
+        return [(row[0], sum(Fraction(length * row[1 + kind], 100) for kind, length in legs)) for row in rows]
+
+    def distance(self, r):
+        return sum(length for kind, length in self.races[r - 1]["legs"])
+
+    def result(self, m, r, b, seconds=None):
+        """What is less is ahead."""
+        cert = self.holds(b, r)[0]
+        seconds = seconds or self.races[r - 1]["times"][b]
         if m == 0:
             return Fraction(seconds * cert["factor"], 1000)
         if m == 1:
-            return seconds - Fraction(cert["allowance"], 10) * Fraction(sum(length for kind, length in legs), 100)
-        spots = [(row[0], sum(Fraction(length * row[1 + kind], 100) for kind, length in legs)) for row in cert["rows"]]
+            return seconds - Fraction(cert["allowance"], 10) * Fraction(self.distance(r), 100)
+        spots = self.spots(r, b)
         if seconds >= spots[0][1]:
             return (-spots[0][0], seconds / spots[0][1])
         if seconds < spots[-1][1]:
@@ -171,19 +185,97 @@ class Reference:
         refused = self.refusal([(-10, m in (0, 1)), (-3, r), (-2, b)])
         if refused:
             return refused
-        if b not in self.races[r - 1]["times"] or not self.holds(b, r):
+        if not self.is_told(b, r):
             return [-6]
         time = self.result(m, r, b)
-        text = list(f"{time.numerator}/{time.denominator}".encode())
-        return [math.floor(time + Fraction(1, 2)), len(text)] + text
+        return [math.floor(time + Fraction(1, 2))] + self.fraction(time)
+
+    def is_told(self, b, r):
+        return b in self.races[r - 1]["times"] and self.holds(b, r)
+
+    def fraction(self, value):
+        text = list("{}/{}".format(*Fraction(value).as_integer_ratio()).encode())
+        return [len(text)] + text
+
+    def pairs(self, m, r):
+        told = {b: self.result(m, r, b) for b in self.races[r - 1]["times"] if self.holds(b, r)}
+        return sorted((1 + sum(other < own for other in told.values()), b) for b, own in told.items())
 
     def order(self, m, r):
         refused = self.refusal([(-10, m in (0, 1, 2)), (-3, r)])
         if refused:
             return refused
-        told = {b: self.result(m, r, b) for b in self.races[r - 1]["times"] if self.holds(b, r)}
-        pairs = sorted((1 + sum(other < own for other in told.values()), b) for b, own in told.items())
+        pairs = self.pairs(m, r)
         return [len(pairs)] + [value for pair in pairs for value in pair]
+
+    def wind(self, r, b):
+        refused = self.refusal([(-3, r), (-2, b)])
+        if refused:
+            return refused
+        if not self.is_told(b, r):
+            return [-6]
+        knots, ratio = self.result(2, r, b)
+        return self.fraction(-knots) + self.fraction(ratio)
+
+    def course(self, r, b, w):
+        refused = self.refusal([(-3, r), (-2, b), (-10, 0 <= w <= 1000)])
+        if refused:
+            return refused
+        if not self.holds(b, r):
+            return [-6]
+        spots, knots = self.spots(r, b), Fraction(w, 10)
+        knots = min(max(knots, spots[0][0]), spots[-1][0])
+        for (less, slow), (more, fast) in zip(spots, spots[1:]):
+            if less <= knots <= more:
+                return self.fraction(100 * (slow * (more - knots) + fast * (knots - less)) / (more - less))
+
+    def margin(self, m, r, a, b):
+        refused = self.refusal([(-10, m in (0, 1, 2)), (-3, r), (-2, a), (-2, b)])
+        if refused:
+            return refused
+        if not (self.is_told(a, r) and self.is_told(b, r)):
+            return [-6]
+        times, other = range(1, 10 ** 6), self.result(m, r, b)
+        return [bisect.bisect_left(times, other, key=lambda time: self.result(m, r, a, time))]
+
+    def swing(self, r, a, b):
+        refused = self.refusal([(-3, r), (-2, a), (-2, b)])
+        if refused:
+            return refused
+        if not (self.is_told(a, r) and self.is_told(b, r)):
+            return [-6]
+        seconds, limit = self.races[r - 1]["times"][a], math.ceil(1000 * self.result(0, r, b))
+        return [max((factor for factor in range(100, 10000) if seconds * factor < limit), default=0)]
+
+    def day(self, text):
+        try:
+            return [(date(bytes(text)) - datetime.date(1900, 1, 1)).days]
+        except WrongLine:
+            return [-7]
+
+    def date(self, n):
+        if not 0 <= n <= (datetime.date(2199, 12, 31) - datetime.date(1900, 1, 1)).days:
+            return [-10]
+        return list((datetime.date(1900, 1, 1) + datetime.timedelta(n)).isoformat().encode())
+
+    def page(self, m, r):
+        refused = self.refusal([(-10, m in (0, 1, 2)), (-3, r)])
+        if refused:
+            return refused
+        told = "race {} {}\n".format(self.races[r - 1]["day"].isoformat(), self.distance(r))
+        for place, b in self.pairs(m, r):
+            own = self.result(m, r, b)
+            word = "{}/{}".format(*Fraction(-own[0]).as_integer_ratio()) if m == 2 else math.floor(own + Fraction(1, 2))
+            told += " ".join(map(str, (place, self.boats[b - 1].decode(), self.races[r - 1]["times"][b],
+                                       self.holds(b, r)[0]["no"], word))) + "\n"
+        return list(told.encode())
+
+    def legs(self, r):
+        refused = self.refusal([(-3, r)])
+        if refused:
+            return refused
+        number_of_day = (self.races[r - 1]["day"] - datetime.date(1900, 1, 1)).days
+        return [number_of_day, self.distance(r)] + [value for leg in self.races[r - 1]["legs"] for value in leg]
 
 
 class Dealer:
@@ -240,6 +332,8 @@ class Dealer:
         dice = self.dice
         yield "load", load, (self.whole_fleet(),)
         yield "race", race, (as_bytes("2026-03-15"), self.legs())
+        for b in range(1, 9):
+            yield "finish", finish, (1, b, dice.randint(1, 40) * 3)
         for step in range(dice.randint(10, 70)):
             slip = dice.random() < 0.1
             r = dice.choice((0, 2, 3, 7)) if slip else 1
@@ -258,8 +352,19 @@ class Dealer:
                 e = dice.choice((-1, 0, 10 ** 6)) if dice.random() < 0.1 else dice.randint(1, 40) * 3
                 yield "finish", finish, (r, b, e)
             else:
-                yield dice.choice((("counting", counting, (b, r)), ("corrected", corrected, (m, r, b)),
-                                   ("order", order, (m, r)), ("order", order, (m, r)), ("printed", printed, ())))
+                yield self.telling_call(m, r, b)
+
+    def telling_call(self, m, r, b):
+        dice = self.dice
+        a = dice.randint(0, 13) if dice.random() < 0.05 else dice.randint(1, 8)
+        w = dice.choice((-1, 0, 1000, 1001)) if dice.random() < 0.1 else dice.randint(0, 350)
+        n = dice.choice((-1, 0, 109572, 109573)) if dice.random() < 0.1 else dice.randint(0, 109572)
+        return dice.choice((
+            ("printed", printed, ()), ("counting", counting, (b, r)), ("corrected", corrected, (m, r, b)),
+            ("order", order, (m, r)), ("wind", wind, (r, b)), ("course", course, (r, b, w)),
+            ("margin", margin, (m, r, a, b)), ("margin", margin, (m, r, a, b)), ("swing", swing, (r, a, b)),
+            ("page", page, (m, r)),
+            ("legs", legs_of, (r,)), ("day", day_of, (as_bytes(self.day()),)), ("date", date_of, (n,))))
 
 
 class AgainstTheReference(unittest.TestCase):
